@@ -1,0 +1,1 @@
+"""Oldaddress: addresses handed out for ever, things that move on."""

@@ -1,0 +1,164 @@
+"""The interface as it is listed, and those rules of the language that a short look at the code can tell."""
+
+import ast
+import importlib
+import inspect
+import pathlib
+import unittest
+
+PACKAGE = pathlib.Path(__file__).resolve().parent.parent / "oldaddress"
+
+INTERFACE = {
+    "lands": "is_deed(land, thing)",
+    "histories": "deeds_now(history, numbers)",
+    "pieces": """track(history, piece); families(history); are_twins(history, one, other);
+        holder_apart(history, one, other)""",
+    "flows": """went(history, address, moment, later=None); flow(history, moment, later=None);
+        known_as(history, address, moment=None); known_wholly(history, address, moment=None);
+        scaled(history, pieces, days)""",
+    "holders": """holders(history, life, moment=None); is_holder(history, thing);
+        living(history, holder, moment=None); shares(history, holder, moment=None);
+        due(history, holder, policy, moment=None); piece_due(history, holder, moment=None)""",
+}
+CLASSES = {
+    ("lands", "Land"): "__init__(self, addresses, most); addresses(self); most(self); __eq__(self, other)",
+    ("histories", "History"): """__init__(self, land, deeds); land(self); deeds(self); now(self);
+        rows(self, moment=None); row(self, address, moment=None); many(self, moment=None); made(self, moment=None);
+        where(self, piece, moment=None); piece_at(self, address, index, moment=None);
+        index_of(self, piece, moment=None); can(self, deed); then(self, deed); ahead(self, moment);
+        day(self, moment=None); last_day(self, moment=None); age(self, learned, moment=None);
+        __eq__(self, other)""",
+}
+BUILTIN_METHODS = """append clear copy count endswith extend find get index insert isalnum isalpha isdigit islower
+    isspace isupper items join keys ljust lower lstrip partition pop remove replace reverse rfind rjust rpartition
+    rsplit rstrip setdefault sort split splitlines startswith strip update upper values zfill bit_length title
+    capitalize swapcase casefold center expandtabs removeprefix removesuffix rindex isascii isdecimal isnumeric
+    istitle isidentifier isprintable translate maketrans encode decode hex""".split()
+BUILTINS = """len range enumerate zip min max sum abs sorted reversed int str bool bytes list tuple dict set
+    frozenset isinstance ord repr any all divmod iter next map super property staticmethod classmethod object
+    NotImplemented Exception ValueError TypeError KeyError IndexError LookupError ZeroDivisionError ArithmeticError
+    OverflowError RuntimeError NotImplementedError AttributeError StopIteration""".split()
+LIBRARY = ("heapq", "math", "itertools")
+WORDS = "type typing enum Enum Flag Generic Protocol ABC namedtuple dataclass overload contextmanager".split()
+
+
+def signatures(text):
+    return [" ".join(part.split()) for part in text.split(";") if part.strip()]
+
+
+def files():
+    return sorted(PACKAGE.glob("*.py"))
+
+
+def trees():
+    return [(path, ast.parse(path.read_text())) for path in files()]
+
+
+class Interface(unittest.TestCase):
+    def test_functions_stand_in_their_files(self):
+        for name, text in INTERFACE.items():
+            module = importlib.import_module("oldaddress." + name)
+            for signature in signatures(text):
+                function = getattr(module, signature.split("(")[0])
+                self.assertEqual(function.__name__ + str(inspect.signature(function)), signature)
+                self.assertEqual(function.__module__, module.__name__)
+
+    def test_methods_stand_in_their_classes(self):
+        for (name, owner), text in CLASSES.items():
+            module = importlib.import_module("oldaddress." + name)
+            owner = getattr(module, owner)
+            self.assertEqual(owner.__module__, module.__name__)
+            for signature in signatures(text):
+                method = vars(owner)[signature.split("(")[0]]
+                self.assertEqual(method.__name__ + str(inspect.signature(method)), signature)
+
+
+class Form(unittest.TestCase):
+    def test_files(self):
+        for path in PACKAGE.iterdir():
+            self.assertTrue(path.suffix == ".py" or path.name == "__pycache__", path)
+        for path in files():
+            text = path.read_bytes().decode("ascii")
+            self.assertTrue(all(sign == "\n" or " " <= sign <= "~" for sign in text), path)
+            lines = text.splitlines()
+            self.assertLessEqual(len(lines), 399, path)
+            self.assertLessEqual(max(map(len, lines), default=0), 120, path)
+
+    def test_functions_are_small(self):
+        for path, tree in trees():
+            for node in ast.walk(tree):
+                if isinstance(node, ast.FunctionDef):
+                    self.assertLessEqual(node.end_lineno - node.lineno + 1, 40, (path, node.name))
+
+    def test_statements_and_values(self):
+        barred = (ast.Global, ast.AsyncFunctionDef, ast.AsyncFor, ast.AsyncWith, ast.Await, ast.Import, ast.Div)
+        for path, tree in trees():
+            for node in ast.walk(tree):
+                self.assertNotIsInstance(node, barred, (path, getattr(node, "lineno", 0)))
+                if isinstance(node, ast.Constant):
+                    self.assertIn(type(node.value), (int, str, bytes, bool, type(None)), path)
+                if isinstance(node, ast.Constant) and isinstance(node.value, str):
+                    self.assertNotIn("%", node.value, path)
+                if isinstance(node, ast.ClassDef):
+                    self.assertEqual(node.decorator_list, [], path)
+
+    def test_imports_make_no_ring(self):
+        imports = {}
+        for path, tree in trees():
+            found = [node for node in ast.walk(tree) if isinstance(node, ast.ImportFrom)]
+            found = [node for node in found if node.module not in LIBRARY]
+            self.assertTrue(all(node.level == 0 and node.module.startswith("oldaddress.") for node in found), path)
+            imports[path.stem] = {node.module.split(".")[1] for node in found}
+            names = [alias for node in found for alias in node.names]
+            self.assertTrue(all(alias.asname is None and alias.name != "*" for alias in names), path)
+        while imports:
+            leaves = [name for name, needed in imports.items() if not needed & set(imports)]
+            self.assertTrue(leaves, imports)
+            for name in leaves:
+                del imports[name]
+
+    def test_names_are_bound_once_and_used(self):
+        for path, tree in trees():
+            top = []
+            for node in tree.body:
+                if isinstance(node, ast.ImportFrom):
+                    top += [alias.name for alias in node.names]
+                elif isinstance(node, (ast.FunctionDef, ast.ClassDef)):
+                    top.append(node.name)
+                elif isinstance(node, ast.Assign):
+                    top.append(node.targets[0].id)
+            self.assertEqual(len(top), len(set(top)), path)
+            stored = {n.id for n in ast.walk(tree) if isinstance(n, ast.Name) and isinstance(n.ctx, ast.Store)}
+            parameters = {n.arg for n in ast.walk(tree) if isinstance(n, ast.arg)}
+            loaded = {n.id for n in ast.walk(tree) if isinstance(n, ast.Name) and isinstance(n.ctx, ast.Load)}
+            classes = {n.name for n in tree.body if isinstance(n, ast.ClassDef)}
+            imported = {a.name for n in tree.body if isinstance(n, ast.ImportFrom) for a in n.names}
+            self.assertEqual((stored | parameters) & (imported | classes), set(), path)
+            self.assertEqual(imported - loaded, set(), path)
+            self.assertEqual((stored | parameters | set(top)) & set(BUILTINS), set(), path)
+            self.assertEqual(loaded - stored - parameters - set(top) - set(BUILTINS), set(), path)
+
+    def test_methods_are_own_or_allowed_ones(self):
+        own, assigned = set(), set()
+        for _, tree in trees():
+            for node in ast.walk(tree):
+                if isinstance(node, ast.FunctionDef):
+                    own.add(node.name)
+                if isinstance(node, ast.Attribute) and isinstance(node.ctx, ast.Store):
+                    assigned.add(node.attr)
+        for path, tree in trees():
+            for node in ast.walk(tree):
+                if isinstance(node, ast.Attribute):
+                    known = node.attr in own or node.attr in assigned or node.attr in BUILTIN_METHODS
+                    self.assertTrue(known, (path, node.attr))
+
+    def test_words(self):
+        for path, tree in trees():
+            for node in ast.walk(tree):
+                if isinstance(node, (ast.Name, ast.Attribute, ast.arg, ast.FunctionDef, ast.ClassDef)):
+                    name = getattr(node, "id", getattr(node, "attr", getattr(node, "arg", getattr(node, "name", ""))))
+                    self.assertNotIn(name, WORDS, path)
+
+
+if __name__ == "__main__":
+    unittest.main()
