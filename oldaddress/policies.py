@@ -80,3 +80,34 @@ def holders_within(history, life, moment):
             if history.scene(learned).lying[address] and (life is None or ages[learned] <= life):
                 found.append((address, learned))
     return found
+
+
+def parts_within(history, life, moment):
+    """The pairs of all holders within life at a moment and of what they mean, parted."""
+    spots = spots_of(history.scene(moment).lying)
+    found = []
+    row = None
+    parts = []
+    for holder in holders_within(history, life, moment):
+        # Rows mostly stay from moment to moment: what they are parted into is found once.
+        if meant_row(history, holder) != row:
+            row = meant_row(history, holder)
+            parts = parted(row, spots)
+        found.append((holder, parts))
+    return found
+
+
+def dues_within(history, policy, life, moment):
+    """The pairs of all holders within life at a moment and of their dues."""
+    names = history.land().addresses()
+    return [(holder, due_by(names, policy, parts)) for holder, parts in parts_within(history, life, moment)]
+
+
+def days_to_try(history, life):
+    """The ascending numbers of days, a wait now, at which it can change who is within life."""
+    # Behind a wait whoever learned ahead of now is so many days older; from 1 on they only fall out of life.
+    days = {0: True, 1: True}
+    if life is not None:
+        for holder in holders_within(history, life, history.now()):
+            days[life + 1 - history.age(holder[1])] = True
+    return sorted(list(days))

@@ -3,9 +3,11 @@
 import itertools
 import random
 
+from oldaddress.desks import Desk
 from oldaddress.errors import BadLand
 from oldaddress.histories import History
 from oldaddress.lands import Land
+from oldaddress.streets import Street
 
 POLICIES = ("all", "first", "most")
 
@@ -233,6 +235,7 @@ def junk():
     deep = []
     for _ in range(2000):
         deep = [deep]
+    street = Street(history, {"a": "n", "b": "n"}, {"n": None}, [])
     return [
         None, True, False, 0, 1, 2, -1, 10 ** 30, -(10 ** 5000), "", "a", "all", "wait", "A", "a" * 9, "\u00e4",
         [], (), [[]], [()], [None], [1], (True,), ("a",), ["a", "a"], ["a", 1], ("a", True), ("a", "1"),
@@ -240,5 +243,5 @@ def junk():
         ([], 1, 2), ({}, None, None), ("all", 0, None), ("all", True, None), ("all", None, -1), ("all", 1),
         ("first", 1, True), ("most", "1", 1), ("last", None, None), (None, None, None), ("all", None, None, None),
         {}, {"a": 1}, {"a": ("a",)}, {1: 2}, {("a", 1): []}, {None: None}, [{}], ({},), (land, 1), (history, 0),
-        len, lambda thing: True, land, history, BadLand(1), Land, deep, tuple(deep),
+        len, lambda thing: True, land, history, street, Desk(land), BadLand(1), Land, deep, tuple(deep),
     ]

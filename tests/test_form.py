@@ -19,6 +19,21 @@ INTERFACE = {
     "holders": """holders(history, life, moment=None); is_holder(history, thing);
         living(history, holder, moment=None); shares(history, holder, moment=None);
         due(history, holder, policy, moment=None); piece_due(history, holder, moment=None)""",
+    "answers": """dues_of(history, address, policy, life, moment=None);
+        learned_when(history, address, due, policy, life, moment=None)""",
+    "likeness": """are_alike(history, one, other); deeds_apart(history, one, other);
+        alike_lots(history, life, moment=None)""",
+    "promises": """is_promise(thing); table(history, promise, moment=None); keeps(history, promise, moment=None);
+        is_table(history, promise, thing, moment=None); clash(history, promise, moment=None);
+        is_clash(history, promise, thing, moment=None); misled(history, promise, thing, moment=None);
+        mended(history, promise, thing, moment=None)""",
+    "lives": """greatest_life(history, policy, width, moment=None); least_width(history, policy, life, moment=None);
+        front(history, policy, moment=None); kept(history, promise); first_broken(history, promise)""",
+    "streets": """learned_at(street, address, moment); comes_to(street, holder, moment=None);
+        door_tables(street, promise, moment=None); door_clash(street, promise, moment=None)""",
+    "closings": """closed(street, houses); may_close(street, houses, promise); closes_in(street, houses, promise);
+        fewest_doors(street, promise); bad_runs(street, promise)""",
+    "desks": "",
 }
 CLASSES = {
     ("lands", "Land"): "__init__(self, addresses, most); addresses(self); most(self); __eq__(self, other)",
@@ -27,6 +42,12 @@ CLASSES = {
         where(self, piece, moment=None); piece_at(self, address, index, moment=None);
         index_of(self, piece, moment=None); can(self, deed); then(self, deed); ahead(self, moment);
         day(self, moment=None); last_day(self, moment=None); age(self, learned, moment=None);
+        __eq__(self, other)""",
+    ("streets", "Street"): """__init__(self, history, owners, heirs, turns); history(self); houses(self); turns(self);
+        owner(self, address, moment=None); door(self, house, moment=None); __eq__(self, other)""",
+    ("desks", "Desk"): """__init__(self, land); history(self); watched(self); give(self, order); would(self, order);
+        may(self, numbers); days_for(self, deed); tells(self, address, promise); quarrel(self, promise); undo(self);
+        redo(self); orders(self); count(self); at(self, number); copy(self); trial(self, work);
         __eq__(self, other)""",
 }
 BUILTIN_METHODS = """append clear copy count endswith extend find get index insert isalnum isalpha isdigit islower

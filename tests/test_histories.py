@@ -1,6 +1,7 @@
 import random
 import unittest
 
+from oldaddress.desks import Desk
 from oldaddress.errors import (
     BadDeeds,
     BadIndex,
@@ -311,6 +312,7 @@ class Others(Asking):
 
     def test_equal_none_of_another_class(self):
         history = History(Land(["a", "b"], 9), [])
+        self.assertIs(history == Desk(Land(["a", "b"], 9)), False)
         self.assertIs(history == history.land(), False)
 
     def test_naive_of_the_example(self):
