@@ -33,6 +33,11 @@ def is_word_of(words, thing):
     return isinstance(thing, str) and thing in words
 
 
+def is_word(thing):
+    """Whether a thing is a word that views and markers tell."""
+    return is_integer(thing) or isinstance(thing, str)
+
+
 def is_life(thing):
     return thing is None or is_number(thing)
 

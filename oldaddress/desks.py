@@ -1,11 +1,11 @@
 """Desks: a land as it lives, with promises that are watched and held."""
 
 from oldaddress.checks import is_list, is_number, is_word_of
+from oldaddress.doing import waits_for
 from oldaddress.entries import exact_promise
 from oldaddress.errors import BadLand, CannotBeDone
 from oldaddress.histories import History, deeds_now
 from oldaddress.lands import Land
-from oldaddress.policies import days_to_try
 from oldaddress.promises import clash, keeps, table
 from oldaddress.refusals import BadNumber, BadOrder, Broken, IsWatched, NotWatched, WouldBreak
 
@@ -78,15 +78,6 @@ def first_breach(history, watched):
     return None
 
 
-def days_until_let(history, deed, promise):
-    """The least number of days behind which a deed does not break a promise, None if there is none."""
-    for days in days_to_try(history, promise[2]):
-        later = history if days == 0 else history.then(("wait", days))
-        if keeps(later.then(deed), promise):
-            return days
-    return None
-
-
 class Desk:
     """A history that goes on by orders, and the promises that are watched and held."""
 
@@ -130,7 +121,7 @@ class Desk:
         history, watched = self._steps[-1][1:]
         if not history.can(deed):
             raise CannotBeDone(deed)
-        days = [days_until_let(history, deed, promise) for promise in held_ones(watched)]
+        days = [waits_for(history, promise, deed) for promise in held_ones(watched)]
         return None if None in days else max([0, *days])
 
     def tells(self, address, promise):

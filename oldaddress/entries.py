@@ -62,15 +62,20 @@ def by_address(comers):
     return found
 
 
-def table_of(names, width, comers):
-    """The dict from the addresses of comers to the shortest entries, None if one has none."""
+def table_of_groups(names, width, groups):
+    """The dict from what groups of comers stand under to the shortest entries, None if one has none."""
     entries = {}
-    for address, group in by_address(comers).items():
+    for key, group in groups.items():
         entry = shortest_entry(names, width, [due for holder, due in group])
         if entry is None:
             return None
-        entries[address] = entry
+        entries[key] = entry
     return entries
+
+
+def table_of(names, width, comers):
+    """The dict from the addresses of comers to the shortest entries, None if one has none."""
+    return table_of_groups(names, width, by_address(comers))
 
 
 def clash_in(names, width, group):
@@ -85,9 +90,14 @@ def clash_in(names, width, group):
     return pairs[: width + 1]
 
 
-def clash_of(names, width, comers):
-    """The clash of the first address that no entry serves, None if there is a table."""
-    for group in list(by_address(comers).values()):
+def clash_of_groups(names, width, groups):
+    """The clash of the first group of comers that no entry serves, None if there is none."""
+    for group in list(groups.values()):
         if shortest_entry(names, width, [due for holder, due in group]) is None:
             return clash_in(names, width, group)
     return None
+
+
+def clash_of(names, width, comers):
+    """The clash of the first address that no entry serves, None if there is a table."""
+    return clash_of_groups(names, width, by_address(comers))

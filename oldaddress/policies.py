@@ -103,6 +103,24 @@ def dues_within(history, policy, life, moment):
     return [(holder, due_by(names, policy, parts)) for holder, parts in parts_within(history, life, moment)]
 
 
+def no_age(life):
+    """The age of who learned something now."""
+    return None if life is None else 0
+
+
+def known_within(history, life, told):
+    """For each address the ascending pairs (what told tells of a row, least age) of the rows meant within life."""
+    now = history.now()
+    known = {address: {} for address in history.land().addresses()}
+    for holder in holders_within(history, life, now):
+        ages = known[holder[0]]
+        row = told(meant_row(history, holder))
+        age = no_age(life) if life is None else history.age(holder[1])
+        if row not in ages or (age is not None and age < ages[row]):
+            ages[row] = age
+    return tuple([tuple(sorted(list(ages.items()))) for ages in list(known.values())])
+
+
 def days_to_try(history, life):
     """The ascending numbers of days, a wait now, at which it can change who is within life."""
     # Behind a wait whoever learned ahead of now is so many days older; from 1 on they only fall out of life.

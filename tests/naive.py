@@ -165,6 +165,51 @@ class Naive:
         policy, width, life = promise
         return self.table_for(width, self.comers(policy, life, moment))
 
+    def keeps(self, promise):
+        """Whether a promise is kept now."""
+        return self.table(promise, self.now) is not None
+
+    def then(self, *deeds):
+        return Naive(self.addresses, self.most, self.deeds + list(deeds))
+
+    def can(self, deed):
+        return can(self.rows[-1], self.most, deed)
+
+    def waited(self, days):
+        return self.then(("wait", days)) if days else self
+
+    def small_steps(self):
+        """All deeds of small lands that can be done now, and behind them one day of waiting."""
+        deeds = all_deeds(self.addresses, range(self.most + 1))
+        return [deed for deed in deeds if self.can(deed)] + [("wait", 1)]
+
+    def places(self, holder, moment):
+        spots = {}
+        for address, row in self.rows[moment].items():
+            spots.update({piece: (address, index) for index, piece in enumerate(row)})
+        found = []
+        for address, index in [spots[piece] for piece in self.meant(holder) if piece in spots]:
+            if found and found[-1][0] == address and found[-1][2] + 1 == index:
+                found[-1] = (address, found[-1][1], index)
+            else:
+                found.append((address, index, index))
+        return found
+
+    def state(self, life):
+        known = []
+        for address in self.addresses:
+            ages = {}
+            for holder in self.holders(life, self.now):
+                if holder[0] == address:
+                    age = None if life is None else self.age(holder[1], self.now)
+                    ages.setdefault(tuple(self.places(holder, self.now)), []).append(age)
+            known.append(tuple((row, None if life is None else min(ages[row])) for row in sorted(ages)))
+        return (tuple(len(self.rows[-1][address]) for address in self.addresses), tuple(known))
+
+    def told(self):
+        """The same history of the program."""
+        return History(Land(self.addresses, self.most), self.deeds)
+
 
 def stretches(pieces):
     """Pieces, or moments, in their order as stretches, as long as can be."""
@@ -217,6 +262,33 @@ def all_histories(addresses, most, many):
                 if can(naive.rows[-1], most, deed):
                     longer.append(deeds + [deed])
         lots = longer
+
+
+def met_states(addresses, most, life):
+    """The dict from all states of a small land to the first shortest naive histories that come to them."""
+    met = {}
+    queue = [Naive(addresses, most, [])]
+    met[queue[0].state(life)] = queue[0]
+    for naive in queue:
+        for deed in naive.small_steps():
+            later = naive.then(deed)
+            if later.state(life) not in met:
+                met[later.state(life)] = later
+                queue.append(later)
+    return met
+
+
+def ways_of(naive, steps, most):
+    """All lists of steps of at most so many from a naive history on, shorter ones ahead, with what is behind."""
+    level = [([], naive)]
+    for _ in range(most + 1):
+        yield from level
+        level = [(way + [deed], later.then(deed)) for way, later in level for deed in steps(later)]
+
+
+def no_functions():
+    """Objects of all kinds, none of which is a function."""
+    return [thing for thing in junk() if not callable(thing)]
 
 
 def promises():

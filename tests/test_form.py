@@ -29,6 +29,41 @@ INTERFACE = {
         mended(history, promise, thing, moment=None)""",
     "lives": """greatest_life(history, policy, width, moment=None); least_width(history, policy, life, moment=None);
         front(history, policy, moment=None); kept(history, promise); first_broken(history, promise)""",
+    "viewing": """seen_table(history, promise, view, moment=None);
+        seen_clash(history, promise, view, moment=None)""",
+    "marks": """is_good(history, promise, address, first, last, moment=None);
+        are_marks(history, promise, address, thing, moment=None); lone_holders(history, promise, moment=None);
+        least_marks(history, promise, address, moment=None); bad_stretches(history, promise, address, moment=None);
+        are_bad(history, promise, address, thing, moment=None); marking(history, promise, moment=None);
+        marked_table(history, promise, marks, moment=None)""",
+    "lasting": """lasting_marks(history, address, moment=None); lasting_lots(history, address, moment=None);
+        at_once(history, address); least_turn(history, life); turn_clash(history, life, k)""",
+    "states": """places(history, holder, moment=None); state(history, life); is_state(land, life, thing);
+        next_state(land, life, state, deed); table_by(land, promise, state)""",
+    "statelots": """all_states(land, life); parting(one, other, promise); alike_lot(one, other, promise);
+        is_alike_lot(one, other, promise, thing); state_kinds(land, promise)""",
+    "doing": """is_let(history, promise, deed); bar(history, promise, deed); let_deeds(history, promise, numbers);
+        waits_for(history, promise, deed); staying(history, promise, deed); free_again(history, promise)""",
+    "soonest": """soonest(history, promise, deeds); stuck_at(history, promise, deeds);
+        remedies(history, policy, life, deed)""",
+    "surewords": "sure_words(land, promise); breaking(land, promise, word)",
+    "disciplines": """obeys(history, discipline); breaking_way(land, discipline, promise);
+        safe_lot(land, discipline, promise); is_safe_lot(land, discipline, promise, thing); careful(promise);
+        too_strict(land, discipline, promise)""",
+    "asks": """serving(history, deed, promise, within); too_much(history, asks, promise, within);
+        served_lot(history, asks, promise, within); is_served_lot(history, asks, promise, within, thing);
+        least_within(history, asks, promise)""",
+    "plans": """is_plan(history, wish, promise, thing); shortest_plan(history, wish, promise);
+        how_many(history, wish, promise); cheapest_plan(history, wish, promise, prices);
+        reached(history, promise); closed_lot(history, wish, promise);
+        is_closed_lot(history, wish, promise, thing)""",
+    "forwards": "follow(land, book, address); ring_of(land, book, address)",
+    "lazybooks": """lazy_book(history, moment=None); how_led(history, holder, moment=None);
+        first_misled(history, life, moment=None); cause(history, holder, moment=None);
+        right_book(history, life, moment=None)""",
+    "neededentries": """needed(history, life, moment=None); who_needs(history, address, life, moment=None);
+        needed_days(history, address, life)""",
+    "bookhistories": "book_history(land, book)",
     "streets": """learned_at(street, address, moment); comes_to(street, holder, moment=None);
         door_tables(street, promise, moment=None); door_clash(street, promise, moment=None)""",
     "closings": """closed(street, houses); may_close(street, houses, promise); closes_in(street, houses, promise);
@@ -151,6 +186,7 @@ class Form(unittest.TestCase):
             self.assertEqual(len(top), len(set(top)), path)
             stored = {n.id for n in ast.walk(tree) if isinstance(n, ast.Name) and isinstance(n.ctx, ast.Store)}
             parameters = {n.arg for n in ast.walk(tree) if isinstance(n, ast.arg)}
+            stored |= {n.name for n in ast.walk(tree) if isinstance(n, ast.FunctionDef)}
             loaded = {n.id for n in ast.walk(tree) if isinstance(n, ast.Name) and isinstance(n.ctx, ast.Load)}
             classes = {n.name for n in tree.body if isinstance(n, ast.ClassDef)}
             imported = {a.name for n in tree.body if isinstance(n, ast.ImportFrom) for a in n.names}
