@@ -33,7 +33,7 @@ def pieces_taken(sizes, turn):
 
 def with_age(pairs, row, age):
     """Pairs (row, age) with one more, or with this age for its row."""
-    ages = dict(pairs)
+    ages = {known: told for known, told in pairs}
     ages[row] = age
     return tuple(sorted(list(ages.items())))
 
