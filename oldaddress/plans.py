@@ -8,7 +8,7 @@ from oldaddress.errors import BadPrices, BadWish
 from oldaddress.rows import row_of
 from oldaddress.spots import parted, spots_of
 from oldaddress.trails import FOUND, Trail, first_way
-from oldaddress.turns import Turns, pieces_taken
+from oldaddress.turns import DAY, Turns, pieces_taken
 
 
 def row_told(thing):
@@ -88,7 +88,7 @@ class Planning:
         return behind
 
     def cost(self, spot, turn, prices):
-        if turn[0] == "wait":
+        if turn == DAY:
             return prices[1]
         return prices[0] * pieces_taken(self.spots.sizes(spot), turn)
 

@@ -21,9 +21,7 @@ def turn_told(names, thing):
 
 
 def pieces_taken(sizes, turn):
-    """How many pieces a turn takes to another address."""
-    if turn == DAY:
-        return 0
+    """How many pieces a turn that is no wait takes to another address."""
     if turn[0] == "cut":
         return sizes[turn[1]] - turn[2]
     if turn[0] == "swap":

@@ -234,6 +234,12 @@ class SafeLots(Asking):
         self.assertIs(is_safe_lot(ONE, lets_nothing, PROMISE, []), False)
         self.assertIs(is_safe_lot(ONE, lets_nothing, PROMISE, [[], [("wait", 1)]]), False)
 
+    def test_waits_are_of_one_day(self):
+        waits = lets_words("wait")
+        self.assertIs(is_safe_lot(ONE, waits, PROMISE, [[("wait", 1)], []]), True)
+        self.assertIs(is_safe_lot(ONE, waits, PROMISE, [[], [("wait", 2)]]), False)
+        self.assertIs(is_safe_lot(ONE, waits, PROMISE, [[], [("wait", 1), ("wait", 1), ("wait", 3)]]), False)
+
     def test_any_object(self):
         discipline, lot = self.lot()
         for thing in junk():

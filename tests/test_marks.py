@@ -174,6 +174,34 @@ class Marks(Asking):
         self.assertIs(are_marks(ended, ALL, "a", [(1, 4)]), True)
         self.same(least_marks(history, ALL, "a", 0), [])
 
+    def test_neighbours_that_go_together_and_all_that_do_not(self):
+        deeds = [("make", "a", 1), ("move", "a", "b"), ("make", "a", 1), ("move", "a", "c"), ("make", "a", 1)]
+        history = History(Land(["a", "b", "c"], 3), deeds)
+        two = ("first", 2, None)
+        self.same(least_marks(history, two, "a"), [(1, 3), (5, 5)])
+        self.same(bad_stretches(history, two, "a"), [(1, 5)])
+        self.assertIs(is_good(history, two, "a", 3, 5), True)
+        self.assertIs(is_good(history, two, "a", 1, 5), False)
+
+    def test_order_of_stretches(self):
+        history = History(Land(["a", "b"], 3), [("make", "a", 1), ("wait", 1), ("wait", 1), ("wait", 1)])
+        for thing, right in (
+            ([(1, 4)], True), ([(1, 1), (2, 4)], True), ([(2, 4), (1, 1)], False), ([(1, 2), (2, 4)], False),
+            ([(1, 1), (2, 2), (3, 4)], True), ([(1, 1), (3, 4), (2, 2)], False), ([(2, 2), (3, 4), (1, 1)], False),
+            ([(1, 1), (3, 1), (2, 4)], False), ([(1, 1), (2, 3)], False), ([(1, 2), (4, 4)], False), ([], False),
+            ([(2, 4)], False), ([(4, 1)], False), ([(1, 4), (4, 4)], False),
+        ):
+            self.assertIs(are_marks(history, ALL, "a", thing), right)
+
+    def test_order_of_bad_ones(self):
+        history = History(Land(["a", "b"], 3), [("make", "a", 1), ("make", "b", 1)] + [("swap", "a", "b")] * 3)
+        for thing, right in (
+            ([(2, 3), (3, 4), (4, 5)], True), ([(3, 4), (2, 3)], False), ([(2, 4)], True), ([(1, 2)], False),
+            ([(2, 5)], True), ([(1, 3), (3, 5)], True), ([(1, 3), (2, 5)], False), ([(2, 3), (4, 5), (3, 4)], False),
+            ([(3, 2)], False), ([(2, 3), (4, 5)], True), ([(2, 5), (5, 4)], False),
+        ):
+            self.assertIs(are_bad(history, ALL, "a", thing), right, thing)
+
     def test_lone(self):
         for naive, history in random_histories(315, 60):
             for promise in promises():

@@ -210,6 +210,15 @@ class Wishes(Asking):
             for call in self.calls(wish):
                 self.refused(BadWish, wish, *call)
 
+    def test_pieces_that_stand_twice(self):
+        history = History(Land(["a", "b", "c"], 4), [("make", "a", 4)])
+        for wish in (
+            {"a": [(1, 2)], "b": [(2, 3)]}, {"b": [(2, 3), (1, 2)]}, {"a": [(1, 4)], "c": [(2, 3)]},
+            {"a": [(1, 2)], "b": [(3, 4)], "c": [(2, 2)]}, {"a": [(4, 4)], "b": [(1, 1)], "c": [(4, 4)]},
+        ):
+            self.refused(BadWish, wish, shortest_plan, history, wish, None)
+        self.same(shortest_plan(history, {"b": [(3, 4)], "a": [(1, 2)]}, None), [("cut", "a", 2, "b")])
+
     def test_pieces_that_are_gone(self):
         history = HISTORY.then(("end", "a"))
         for wish in (WISH, {"a": [(1, 1)]}, {"c": [(1, 2)]}):
