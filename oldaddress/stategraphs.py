@@ -1,14 +1,14 @@
 """Graphs of the states of small lands, each looked at once."""
 
-from oldaddress.statesteps import StateSteps, StateTables, small_steps
+from oldaddress.statesteps import StateSteps, StateTables
 from oldaddress.trails import Trail
 
 
 class StateGraph:
     """States, numbered as one comes to them from the one with nothing, and what deeds make of which."""
 
-    def __init__(self, land, life):
-        self._steps = StateSteps(land, life, small_steps(land))
+    def __init__(self, land, life, deeds):
+        self._steps = StateSteps(land, life, deeds)
         self._trail = Trail(self._steps.nothing())
         self._behind = {}
 
@@ -58,3 +58,30 @@ class StateLooks:
 
     def is_kept(self, number):
         return self.look(number)[1] is not None
+
+
+def numbered(things):
+    """The list of numbers, one for each unlike thing, in the order in which they come."""
+    numbers = {}
+    return [numbers.setdefault(thing, len(numbers)) for thing in things]
+
+
+def kinds_of(graph, looks):
+    """For each state of a graph the number of its kind: no deeds make two of one kind unlike."""
+    numbers = graph.all_numbers()
+    kinds = []
+    finer = numbered([looks.look(number) for number in numbers])
+    while finer != kinds:
+        kinds = finer
+        finer = numbered([
+            (kinds[number], *[kinds[behind] for deed, behind in graph.steps(number)]) for number in numbers
+        ])
+    return kinds
+
+
+def lots_of_kinds(kinds):
+    """The lists of the indexes of one kind."""
+    lots = {}
+    for index, kind in enumerate(kinds):
+        lots.setdefault(kind, []).append(index)
+    return list(lots.values())

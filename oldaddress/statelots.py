@@ -6,8 +6,9 @@ from oldaddress.errors import BadLand, UnlikeLands
 from oldaddress.lands import Land
 from oldaddress.policies import check_life
 from oldaddress.stateforms import state_told
-from oldaddress.stategraphs import StateGraph, StateLooks
+from oldaddress.stategraphs import StateGraph, StateLooks, kinds_of, lots_of_kinds
 from oldaddress.states import state
+from oldaddress.statesteps import small_steps
 from oldaddress.trails import FOUND, Trail, first_way
 
 
@@ -16,7 +17,7 @@ def all_states(land, life):
     if not isinstance(land, Land):
         raise BadLand(land)
     check_life(life)
-    graph = StateGraph(land, life)
+    graph = StateGraph(land, life, small_steps(land))
     return [graph.state_at(number) for number in graph.all_numbers()]
 
 
@@ -29,7 +30,7 @@ class Pairing:
         self._promise = exact_promise(promise)
         self._land = one.land()
         life = self._promise[2]
-        self._graph = StateGraph(self._land, life)
+        self._graph = StateGraph(self._land, life, small_steps(self._land))
         self._looks = StateLooks(self._land, self._promise, self._graph)
         self._start = (self._graph.number_of(state(one, life)), self._graph.number_of(state(other, life)))
         self._behind = {}
@@ -111,28 +112,10 @@ def is_alike_lot(one, other, promise, thing):
     return pairs is not None and pairing.is_lot(pairs)
 
 
-def numbered(things):
-    """The list of numbers, one for each unlike thing, in the order in which they come."""
-    numbers = {}
-    return [numbers.setdefault(thing, len(numbers)) for thing in things]
-
-
 def state_kinds(land, promise):
     """The lists of the indexes in all_states of states that no deeds make unlike for a promise."""
     if not isinstance(land, Land):
         raise BadLand(land)
     exact = exact_promise(promise)
-    graph = StateGraph(land, exact[2])
-    numbers = graph.all_numbers()
-    looks = StateLooks(land, exact, graph)
-    kinds = []
-    finer = numbered([looks.look(number) for number in numbers])
-    while finer != kinds:
-        kinds = finer
-        finer = numbered([
-            (kinds[number], *[kinds[behind] for deed, behind in graph.steps(number)]) for number in numbers
-        ])
-    lots = {}
-    for number, kind in enumerate(kinds):
-        lots.setdefault(kind, []).append(number)
-    return list(lots.values())
+    graph = StateGraph(land, exact[2], small_steps(land))
+    return lots_of_kinds(kinds_of(graph, StateLooks(land, exact, graph)))

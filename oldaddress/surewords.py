@@ -7,6 +7,7 @@ from oldaddress.errors import BadLand, BadWord
 from oldaddress.histories import History
 from oldaddress.lands import Land
 from oldaddress.stategraphs import StateGraph, StateLooks
+from oldaddress.statesteps import small_steps
 
 
 def breaking_ways(land, promise):
@@ -14,7 +15,7 @@ def breaking_ways(land, promise):
     if not isinstance(land, Land):
         raise BadLand(land)
     told = exact_promise(promise)
-    graph = StateGraph(land, told[2])
+    graph = StateGraph(land, told[2], small_steps(land))
     looks = StateLooks(land, told, graph)
     found = {}
     for number in graph.all_numbers():
@@ -35,7 +36,7 @@ def sure_words(land, promise):
 def breaking(land, promise, word):
     """The first shortest history that keeps a promise which a deed with a word then breaks, and the deed."""
     found = breaking_ways(land, promise)
-    if not is_word_of(FORMS, word):
+    if not is_word_of(list(FORMS), word):
         raise BadWord(word)
     if word not in found:
         return None

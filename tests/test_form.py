@@ -195,6 +195,31 @@ class Form(unittest.TestCase):
             self.assertEqual((stored | parameters | set(top)) & set(BUILTINS), set(), path)
             self.assertEqual(loaded - stored - parameters - set(top) - set(BUILTINS), set(), path)
 
+    def test_lists_and_dicts_at_module_level_are_only_read(self):
+        """L15: by an index, by iteration, by in, ==, len and the like; passed on only as a copy."""
+        kept = set()
+        for _, tree in trees():
+            for node in tree.body:
+                if isinstance(node, ast.Assign) and isinstance(node.value, (ast.Dict, ast.List)):
+                    kept.add(node.targets[0].id)
+        self.assertIn("FORMS", kept)
+        for path, tree in trees():
+            for node in ast.walk(tree):
+                for child in ast.iter_child_nodes(node):
+                    if isinstance(child, ast.Name) and child.id in kept and isinstance(child.ctx, ast.Load):
+                        self.assertTrue(self.is_read(node, child), (path, child.lineno))
+
+    def is_read(self, node, name):
+        if isinstance(node, ast.Subscript):
+            return node.value is name and isinstance(node.ctx, ast.Load)
+        if isinstance(node, (ast.For, ast.comprehension)):
+            return node.iter is name
+        if isinstance(node, ast.Attribute):
+            return node.attr in ("get", "items", "keys", "values", "index", "count")
+        if isinstance(node, ast.Call):
+            return isinstance(node.func, ast.Name) and node.func.id in ("list", "dict", "tuple", "len", "sorted")
+        return isinstance(node, ast.Compare)
+
     def test_methods_are_own_or_allowed_ones(self):
         own, assigned = set(), set()
         for _, tree in trees():

@@ -89,6 +89,13 @@ class SureWords(Asking):
             if thing != "wait":
                 self.refused(BadWord, thing, breaking, Land(["a", "b"], 1), ("all", 1, 1), thing)
 
+    def test_words_that_no_dict_can_look_up(self):
+        for thing in ([], {}, ["swap"], {"swap": 1}, ("swap", []), ([],), Land(["a", "b"], 1), "Swap", "swap "):
+            self.refused(BadWord, thing, breaking, TWO, ("first", None, 0), thing)
+        for word in WORDS:
+            told = breaking(TWO, ("first", None, 0), word)
+            self.assertEqual(told is None, word in sure_words(TWO, ("first", None, 0)))
+
 
 if __name__ == "__main__":
     unittest.main()
