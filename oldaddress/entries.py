@@ -3,7 +3,7 @@
 Comers are lists of pairs (holder, due), in the order of holders: by addresses, then by moments.
 """
 
-from oldaddress.checks import is_life, is_list, is_policy, is_width
+from oldaddress.checks import is_life, is_list, is_policy, is_width, is_word_of, unlike_addresses
 from oldaddress.errors import BadPromise
 
 
@@ -22,6 +22,14 @@ def exact_promise(thing):
     if promise is None:
         raise BadPromise(thing)
     return promise
+
+
+def told_entries(names, thing):
+    """The entries that a dict tells, as tuples, in the order of the names, None if it is no such dict."""
+    if not isinstance(thing, dict) or not all([is_word_of(names, key) for key in thing]):
+        return None
+    entries = {name: unlike_addresses(names, thing[name]) for name in names if name in thing}
+    return None if None in list(entries.values()) else entries
 
 
 def serves(width, entry, due):

@@ -1,7 +1,7 @@
 """Promises: tables that keep them, and clashes that show that there is none."""
 
-from oldaddress.checks import is_list, is_word_of, unlike_addresses
-from oldaddress.entries import are_at_odds, clash_of, exact_promise, promise_told, serves, table_of
+from oldaddress.checks import is_list, unlike_addresses
+from oldaddress.entries import are_at_odds, clash_of, exact_promise, promise_told, serves, table_of, told_entries
 from oldaddress.errors import BadTable
 from oldaddress.policies import dues_within, holder_told
 
@@ -23,15 +23,6 @@ def keeps(history, promise, moment=None):
     return table(history, promise, moment) is not None
 
 
-def told_entries(history, thing):
-    """The entries that a dict tells, as tuples, in the land's order, None if it is no such dict."""
-    names = history.land().addresses()
-    if not isinstance(thing, dict) or not all([is_word_of(names, key) for key in thing]):
-        return None
-    entries = {name: unlike_addresses(names, thing[name]) for name in names if name in thing}
-    return None if None in list(entries.values()) else entries
-
-
 def unserved(width, entries, comers):
     """The holders among comers whom no entry of their address serves."""
     found = []
@@ -45,7 +36,7 @@ def is_table(history, promise, thing, moment=None):
     """Whether any object is a table that keeps a promise at a moment."""
     policy, width, life = exact_promise(promise)
     comers = dues_within(history, policy, life, history.moment_told(moment))
-    entries = told_entries(history, thing)
+    entries = told_entries(history.land().addresses(), thing)
     if entries is None or unserved(width, entries, comers):
         return False
     return set(entries) == set([holder[0] for holder, due in comers])
@@ -94,7 +85,7 @@ def is_clash(history, promise, thing, moment=None):
 def entries_and_comers(history, promise, thing, moment):
     """The entries that a dict tells, BadTable if it is none, and the holders served, with their dues."""
     policy, width, life = exact_promise(promise)
-    entries = told_entries(history, thing)
+    entries = told_entries(history.land().addresses(), thing)
     if entries is None:
         raise BadTable(thing)
     return entries, dues_within(history, policy, life, history.moment_told(moment))
