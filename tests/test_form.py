@@ -64,6 +64,39 @@ INTERFACE = {
     "neededentries": """needed(history, life, moment=None); who_needs(history, address, life, moment=None);
         needed_days(history, address, life)""",
     "bookhistories": "book_history(land, book)",
+    "walks": """evening(history, day); walk(history, address, day, pace); lost_days(history, holder, pace, life);
+        first_lost(history, pace, life)""",
+    "gentle": """is_gentle(history, rest, moves, idle); idle_needed(life, pace, rest, moves);
+        lost_history(life, pace, rest, moves, idle)""",
+    "inway": "lots_in_way(history, promise); in_way(history, deed, promise)",
+    "letters": """holds_with(history, promise, letters); clash_with(history, promise, letters);
+        letters_cost(history, letters, prices, stamp); what_may_stay(history, address, promise, prices, stamp);
+        least_letters(history, promise, prices, stamp); cheapest(history, deed, promise, prices, stamp, rent)""",
+    "stays": """is_giving(stays, many, thing); giving(stays, many); full_day(stays, many); least_addresses(stays);
+        moved(stays, index, day); with_life(stays, life); needs_by_life(stays); life_for(stays, many);
+        stays_of(history, life)""",
+    "latestays": """late_begins(stays, many); latest(stays, many); in_the_way(stays, many, index);
+        addresses_for(stays, late)""",
+    "markedstays": """is_marked_giving(stays, many, marks, thing); marked_giving(stays, many, marks);
+        marks_for(stays, many)""",
+    "roles": """role_due(history, address, moment=None); both_table(history, policy, life, moment=None);
+        both_clash(history, policy, life, moment=None); keeps_both(history, deed, policy, life);
+        which(history, address, policy, seen); barred(history, address, policy, seen);
+        wanting_two(history, policy, life); first_wanting(history, policy, life)""",
+    "joined": """crowded(histories); joint_table(histories, promise); joint_clash(histories, promise);
+        joining(one, other, promise); is_joining(one, other, promise, thing); no_room(one, other)""",
+    "partings": """finest_parting(history, life, moment=None); tie(history, life, one, other, moment=None);
+        is_tie(history, life, one, other, thing, moment=None); apart_in(history, life, one, other)""",
+    "callers": """forwarder_fault(history, promise, forwarder, moment=None);
+        break_forwarder(history, promise, forwarder, moment=None); marker_words(history, marker);
+        marker_fault(history, promise, marker); marker_lasts(history, marker)""",
+    "writers": """writer_fault(history, promise, writer); shortest_fault(land, promise, writer, numbers, most);
+        keeper_fault(land, promise, keeper, numbers, most)""",
+    "happened": """fits(history, promise, looks); first_fit(land, promise, looks); odd_look(land, promise, looks);
+        count_fits(land, promise, looks); possible(land, promise, looks); sure_deeds(land, promise, looks);
+        sure_counts(land, promise, looks)""",
+    "settled": "possible_kinds(land, promise, looks); own_deeds(land, promise, looks, most)",
+    "texts": "write(thing); read(text)",
     "streets": """learned_at(street, address, moment); comes_to(street, holder, moment=None);
         door_tables(street, promise, moment=None); door_clash(street, promise, moment=None)""",
     "closings": """closed(street, houses); may_close(street, houses, promise); closes_in(street, houses, promise);
