@@ -21,7 +21,7 @@ def told_comers(history, promise, forwarder, moment):
     return width, dues_within(history, policy, life, history.moment_told(moment))
 
 
-def first_fault(history, width, forwarder, comers):
+def fault_of_forwarder(history, width, forwarder, comers):
     """The first served holder whom what a forwarder tells does not serve, with that and the due, else None."""
     names = history.land().addresses()
     told = {address: forwarder(address) for address in by_address(comers)}
@@ -35,7 +35,7 @@ def first_fault(history, width, forwarder, comers):
 def forwarder_fault(history, promise, forwarder, moment=None):
     """The first served holder whom a forwarder does not serve, what it told, and the due, None if it serves all."""
     width, comers = told_comers(history, promise, forwarder, moment)
-    return first_fault(history, width, forwarder, comers)
+    return fault_of_forwarder(history, width, forwarder, comers)
 
 
 def break_forwarder(history, promise, forwarder, moment=None):
@@ -43,7 +43,7 @@ def break_forwarder(history, promise, forwarder, moment=None):
     width, comers = told_comers(history, promise, forwarder, moment)
     if table_of(history.land().addresses(), width, comers) is not None:
         raise CanBeKept()
-    return first_fault(history, width, forwarder, comers)
+    return fault_of_forwarder(history, width, forwarder, comers)
 
 
 def words_told(history, marker):

@@ -3,9 +3,9 @@
 from oldaddress.checks import is_list, is_number, is_word_of
 from oldaddress.doing import waits_for
 from oldaddress.entries import exact_promise
-from oldaddress.errors import BadLand, CannotBeDone
+from oldaddress.errors import CannotBeDone
 from oldaddress.histories import History, deeds_now
-from oldaddress.lands import Land
+from oldaddress.lands import check_land
 from oldaddress.promises import clash, keeps, table
 from oldaddress.refusals import BadNumber, BadOrder, Broken, IsWatched, NotWatched, WouldBreak
 
@@ -82,8 +82,7 @@ class Desk:
     """A history that goes on by orders, and the promises that are watched and held."""
 
     def __init__(self, land):
-        if not isinstance(land, Land):
-            raise BadLand(land)
+        check_land(land)
         # Steps are triples (order, history behind it, watched behind it); they are replaced, never changed,
         # so that copies and trials can keep them as they are.
         self._steps = ((None, History(land, []), ()),)

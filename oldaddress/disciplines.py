@@ -3,10 +3,10 @@
 from oldaddress.checks import is_list
 from oldaddress.deedforms import told_deed
 from oldaddress.entries import exact_promise
-from oldaddress.errors import BadDiscipline, BadLand, BadLife
+from oldaddress.errors import BadDiscipline, BadLife
 from oldaddress.functions import is_function
 from oldaddress.histories import History
-from oldaddress.lands import Land
+from oldaddress.lands import check_land
 from oldaddress.promises import keeps
 from oldaddress.states import state
 from oldaddress.statesteps import StateSteps, StateTables, small_steps
@@ -39,8 +39,7 @@ class Keeping:
     """The small steps of a land, whether a discipline lets them, and whether a promise is kept behind them."""
 
     def __init__(self, land, discipline, promise):
-        if not isinstance(land, Land):
-            raise BadLand(land)
+        check_land(land)
         check_discipline(discipline)
         self._promise = lasting_promise(promise)
         self._land = land

@@ -1,8 +1,8 @@
 """Books: entries that lead on from address to address, and where one arrives who follows them."""
 
 from oldaddress.checks import is_word_of, unlike_addresses
-from oldaddress.errors import BadLand, NoAddress
-from oldaddress.lands import Land
+from oldaddress.errors import NoAddress
+from oldaddress.lands import check_land
 from oldaddress.refusals import BadBook
 
 
@@ -26,8 +26,7 @@ def book_told(names, thing):
 
 
 def exact_book(land, book):
-    if not isinstance(land, Land):
-        raise BadLand(land)
+    check_land(land)
     told = book_told(land.addresses(), book)
     if told is None:
         raise BadBook(book)

@@ -1,9 +1,9 @@
 """Gentle histories: in which no walker is lost, if addresses that got free lie idle for long enough."""
 
 from oldaddress.checks import is_number
-from oldaddress.errors import BadLife
 from oldaddress.histories import History
 from oldaddress.lands import Land
+from oldaddress.policies import check_ending_life
 from oldaddress.refusals import BadIdle, BadMoves, BadRest
 from oldaddress.walks import check_pace
 
@@ -77,8 +77,7 @@ def is_gentle(history, rest, moves, idle):
 
 
 def check_walkers(life, pace, rest, moves):
-    if not is_number(life):
-        raise BadLife(life)
+    check_ending_life(life)
     check_pace(pace)
     check_rest_and_moves(rest, moves)
 

@@ -2,10 +2,9 @@
 
 from oldaddress.checks import first_wrong, is_list, is_word_of, unlike_addresses
 from oldaddress.entries import exact_promise
-from oldaddress.errors import BadLand
 from oldaddress.forwards import in_order
 from oldaddress.histories import History
-from oldaddress.lands import Land
+from oldaddress.lands import check_land
 from oldaddress.promises import table
 from oldaddress.refusals import BadLooks
 from oldaddress.stategraphs import StateGraph, StateLooks
@@ -62,8 +61,7 @@ class Seen:
     """The states of a small land, step by step, behind histories that fit looks; they go together by states."""
 
     def __init__(self, land, promise, looks):
-        if not isinstance(land, Land):
-            raise BadLand(land)
+        check_land(land)
         self.promise = exact_promise(promise)
         self._seen = told_looks(land.addresses(), looks)
         self.graph = StateGraph(land, self.promise[2], small_steps(land))

@@ -5,14 +5,13 @@ from oldaddress.deedforms import deed_can_be_done, deeds_of
 from oldaddress.errors import (
     BadDeeds,
     BadIndex,
-    BadLand,
     BadMoment,
     BadNumbers,
     BadPiece,
     CannotBeDone,
     NoAddress,
 )
-from oldaddress.lands import Land
+from oldaddress.lands import check_land
 from oldaddress.rows import part_of, place_in, size_of
 from oldaddress.scenes import deed_done_there, empty_scene, scene_behind
 
@@ -21,8 +20,7 @@ class History:
     """Deeds of a land, from the moment at which all its addresses are free."""
 
     def __init__(self, land, deeds):
-        if not isinstance(land, Land):
-            raise BadLand(land)
+        check_land(land)
         if not is_list(deeds):
             raise BadDeeds(0)
         told = []

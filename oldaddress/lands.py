@@ -2,7 +2,7 @@
 
 from oldaddress.checks import is_from_one, is_list, is_name
 from oldaddress.deedforms import told_deed
-from oldaddress.errors import BadAddresses, BadMost
+from oldaddress.errors import BadAddresses, BadLand, BadMost
 
 FEWEST = 2
 
@@ -38,6 +38,11 @@ class Land:
 
     def most(self):
         return self._most
+
+
+def check_land(thing):
+    if not isinstance(thing, Land):
+        raise BadLand(thing)
 
 
 def is_deed(land, thing):

@@ -10,6 +10,11 @@ def check_life(life):
         raise BadLife(life)
 
 
+def check_ending_life(life):
+    if not is_number(life):
+        raise BadLife(life)
+
+
 def check_policy(policy):
     if not is_policy(policy):
         raise BadPolicy(policy)

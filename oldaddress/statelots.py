@@ -2,8 +2,8 @@
 
 from oldaddress.checks import is_list
 from oldaddress.entries import exact_promise
-from oldaddress.errors import BadLand, UnlikeLands
-from oldaddress.lands import Land
+from oldaddress.errors import UnlikeLands
+from oldaddress.lands import check_land
 from oldaddress.policies import check_life
 from oldaddress.stateforms import state_told
 from oldaddress.stategraphs import StateGraph, StateLooks, kinds_of, lots_of_kinds
@@ -14,8 +14,7 @@ from oldaddress.trails import FOUND, Trail, first_way
 
 def all_states(land, life):
     """All states of a small land, those of fewer deeds first."""
-    if not isinstance(land, Land):
-        raise BadLand(land)
+    check_land(land)
     check_life(life)
     graph = StateGraph(land, life, small_steps(land))
     return [graph.state_at(number) for number in graph.all_numbers()]
@@ -114,8 +113,7 @@ def is_alike_lot(one, other, promise, thing):
 
 def state_kinds(land, promise):
     """The lists of the indexes in all_states of states that no deeds make unlike for a promise."""
-    if not isinstance(land, Land):
-        raise BadLand(land)
+    check_land(land)
     exact = exact_promise(promise)
     graph = StateGraph(land, exact[2], small_steps(land))
     return lots_of_kinds(kinds_of(graph, StateLooks(land, exact, graph)))

@@ -2,8 +2,8 @@
 
 from oldaddress.deedforms import told_deed
 from oldaddress.entries import exact_promise
-from oldaddress.errors import BadLand, BadState, CannotBeDone
-from oldaddress.lands import Land
+from oldaddress.errors import BadState, CannotBeDone
+from oldaddress.lands import check_land
 from oldaddress.placing import indexed_spots, places_at, sizes_in
 from oldaddress.policies import check_life, exact_holder, known_within, meant_row, moment_since
 from oldaddress.stateforms import state_told
@@ -26,8 +26,7 @@ def state(history, life):
 
 
 def check_land_and_life(land, life):
-    if not isinstance(land, Land):
-        raise BadLand(land)
+    check_land(land)
     check_life(life)
 
 
@@ -57,8 +56,7 @@ def next_state(land, life, state, deed):
 
 def table_by(land, promise, state):
     """The table of a promise, told from a state alone, None if the promise does not hold."""
-    if not isinstance(land, Land):
-        raise BadLand(land)
+    check_land(land)
     exact = exact_promise(promise)
     told = exact_state(land, exact[2], state)
     return StateTables(land.addresses(), exact).table(told)

@@ -1,7 +1,8 @@
 """Stays: things that lie at an address for some days, which is bound for longer, and addresses given to them."""
 
 from oldaddress.checks import first_wrong, is_list, is_number
-from oldaddress.errors import BadIndex, BadLife
+from oldaddress.errors import BadIndex
+from oldaddress.policies import check_ending_life
 from oldaddress.refusals import BadDay, BadMany, BadStays
 from oldaddress.rows import stretches_of
 from oldaddress.spans import first_day_above, most_at_once
@@ -30,11 +31,6 @@ def check_many(many):
 def check_index(stays, index):
     if not is_number(index) or index >= len(stays):
         raise BadIndex(index)
-
-
-def check_life(life):
-    if not is_number(life):
-        raise BadLife(life)
 
 
 def bound_spans(stays):
@@ -122,7 +118,7 @@ def shortened(stays, life):
 def with_life(stays, life):
     """The stays each life of which is cut down to this one."""
     told = told_stays(stays)
-    check_life(life)
+    check_ending_life(life)
     return shortened(told, life)
 
 
@@ -163,7 +159,7 @@ def life_for(stays, many):
 
 def stays_of(history, life):
     """The stays of what lay at each address, as long as it was not free, with a life."""
-    check_life(life)
+    check_ending_life(life)
     found = []
     for address in history.land().addresses():
         moments = [moment for moment in range(history.now() + 1) if history.scene(moment).lying[address]]

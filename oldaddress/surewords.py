@@ -3,17 +3,16 @@
 from oldaddress.checks import is_word_of
 from oldaddress.deedforms import FORMS
 from oldaddress.entries import exact_promise
-from oldaddress.errors import BadLand, BadWord
+from oldaddress.errors import BadWord
 from oldaddress.histories import History
-from oldaddress.lands import Land
+from oldaddress.lands import check_land
 from oldaddress.stategraphs import StateGraph, StateLooks
 from oldaddress.statesteps import small_steps
 
 
 def breaking_ways(land, promise):
     """The dict from words that are not sure to the first pair (deeds, deed) that shows it."""
-    if not isinstance(land, Land):
-        raise BadLand(land)
+    check_land(land)
     told = exact_promise(promise)
     graph = StateGraph(land, told[2], small_steps(land))
     looks = StateLooks(land, told, graph)

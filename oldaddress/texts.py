@@ -39,12 +39,12 @@ def number_told(word):
     return number
 
 
-def word_of(part):
+def text_of(part):
     return part if isinstance(part, str) else figures_of(part)
 
 
 def line_of(parts):
-    return " ".join([word_of(part) for part in parts])
+    return " ".join([text_of(part) for part in parts])
 
 
 def promise_line(promise, is_held):

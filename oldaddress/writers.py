@@ -4,10 +4,10 @@ from oldaddress.callers import check_function
 from oldaddress.checks import is_from_one, is_list, is_number
 from oldaddress.deedforms import deeds_of
 from oldaddress.entries import exact_promise, serves, told_entries
-from oldaddress.errors import BadLand, BadMost
+from oldaddress.errors import BadMost
 from oldaddress.functions import is_function
 from oldaddress.histories import told_numbers
-from oldaddress.lands import Land
+from oldaddress.lands import check_land
 from oldaddress.placing import places_due
 from oldaddress.policies import dues_within
 from oldaddress.promises import keeps
@@ -45,7 +45,7 @@ def says(slate, address):
     return slate.get(address, (address,))
 
 
-def first_misled(history, promise, slate, moment):
+def first_unserved(history, promise, slate, moment):
     """The triple (moment, holder, told) of the first served holder whom a slate misleads, None if there is none."""
     policy, width, life = promise
     for holder, due in dues_within(history, policy, life, moment):
@@ -63,7 +63,7 @@ def writer_fault(history, promise, writer):
     for moment, deed in enumerate([None, *history.deeds()]):
         if deed is not None:
             slate = slates.behind(slate, deed)
-        fault = first_misled(history, told, slate, moment) if keeps(history, told, moment) else None
+        fault = first_unserved(history, told, slate, moment) if keeps(history, told, moment) else None
         if fault is not None:
             return fault
     return None
@@ -113,7 +113,7 @@ class Doings:
         return True
 
 
-def first_fault(doings, slates, most):
+def first_way_to_fault(doings, slates, most):
     """The first shortest list of at most so many deeds behind which a writer has its first fault, else None."""
     # Where states and slates are the same, faults are the same, however one came there.
     trail = Trail((0, tuple(list(slates.first().items()))))
@@ -133,15 +133,14 @@ def first_fault(doings, slates, most):
 
 def shortest_fault(land, promise, writer, numbers, most):
     """The first shortest list of deeds behind which a writer has a fault just at the last moment, else None."""
-    if not isinstance(land, Land):
-        raise BadLand(land)
+    check_land(land)
     told = exact_promise(promise)
     slates = Slates(land.addresses(), writer)
     doings = Doings(land, told, check_steps(numbers, most))
-    return first_fault(doings, slates, most)
+    return first_way_to_fault(doings, slates, most)
 
 
-def is_let(keeper, ahead, deed):
+def keeper_lets(keeper, ahead, deed):
     """Whether a door keeper lets a deed behind others."""
     truth = keeper(ahead, deed)
     if not isinstance(truth, bool):
@@ -151,8 +150,7 @@ def is_let(keeper, ahead, deed):
 
 def keeper_fault(land, promise, keeper, numbers, most):
     """The first list of deeds behind which a door keeper is too lax or too strict, None if there is none."""
-    if not isinstance(land, Land):
-        raise BadLand(land)
+    check_land(land)
     told = exact_promise(promise)
     check_function(keeper)
     doings = Doings(land, told, check_steps(numbers, most))
@@ -161,7 +159,7 @@ def keeper_fault(land, promise, keeper, numbers, most):
         longer = []
         for ahead, number in ways:
             for deed, behind in doings.steps(number):
-                let = is_let(keeper, ahead, deed)
+                let = keeper_lets(keeper, ahead, deed)
                 if let != doings.is_kept(behind):
                     return ("lax" if let else "strict", [*ahead, deed])
                 if let:
