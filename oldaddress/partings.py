@@ -69,9 +69,7 @@ def is_tie(history, life, one, other, thing, moment=None):
 
 def apart_in(history, life, one, other):
     """The least number of days behind which two addresses are apart, None if no number is enough."""
-    check_life(life)
-    history.address_told(one)
-    history.address_told(other)
+    told_joins(history, life, one, other, None)
     for days in days_to_try(history, life):
         if tie(waited(history, days), life, one, other) is None:
             return days

@@ -7,7 +7,7 @@ from oldaddress.entries import promise_told
 from oldaddress.errors import CannotBeDone
 from oldaddress.histories import History
 from oldaddress.lands import FEWEST, Land
-from oldaddress.refusals import BadText, BadThing, Broken, IsWatched
+from oldaddress.refusals import BadText, BadThing, Broken
 
 HEADS = ("land", "history", "desk")
 WATCHING = ("watch", "hold")
@@ -15,8 +15,8 @@ JUST = "just"
 EVER = "ever"
 
 # Python makes integers of some thousand figures at most, so longer numbers are taken part by part.
-PART = 64
-GREAT = 10 ** 64
+PART = 18
+GREAT = 1000000000000000000
 
 
 def figures_of(number):
@@ -162,7 +162,7 @@ class Reading:
         history = History(land, [])
         while not self.is_at_end():
             deed = deed_told(self.words())
-            if deed is None or not history.can(deed):
+            if not history.can(deed):
                 self.refuse()
             history = history.then(deed)
         return history
@@ -172,19 +172,15 @@ class Reading:
         desk = Desk(land)
         while not self.is_at_end():
             order = order_in(self.words())
-            if order is None or (order[0] == "do" and desk.watched()):
+            watched = [promise for promise, is_held, holds in desk.watched()]
+            # No deed stands behind a promise, and no promise twice, though desks let a watched one be held.
+            if order is None or order[1] in watched or (order[0] == "do" and watched):
                 self.refuse()
             try:
-                self.give(desk, order)
-            except (CannotBeDone, IsWatched, Broken):
+                desk.give(order)
+            except (CannotBeDone, Broken):
                 self.refuse()
         return desk
-
-    def give(self, desk, order):
-        # A hold of a promise that is watched already is an order, but no line.
-        if order[0] == "hold" and order[1] in [promise for promise, is_held, holds in desk.watched()]:
-            self.refuse()
-        desk.give(order)
 
 
 def read(text):

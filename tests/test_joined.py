@@ -256,6 +256,19 @@ class Joinings(Asking):
         self.assertIs(is_joining(one, other, promise, ([("move", "a", "x"), ("move", "b", "y")], 1)), False)
         self.assertIs(is_joining(one, other, promise, ([("move", "b", "x"), ("move", "a", "x")], 1)), False)
 
+    def test_rooms_that_somebody_remembers_take_longer(self):
+        """As few days as can be are wanted over all moves: b was left a moment ago, d was never given."""
+        deeds = [("make", "b", 1), ("end", "b"), ("wait", 1), ("make", "a", 2)]
+        for names in (["b", "a", "c", "d"], ["d", "c", "a", "b"], ["c", "a", "b", "d"]):
+            other = History(Land(names, 9), deeds)
+            one = History(Land(["a", "c"], 9), [("make", "c", 1), ("end", "c"), ("make", "a", 1)])
+            moves, days = joining(one, other, ("all", 2, 4))
+            self.same((moves, days), ([("move", "a", "d")], 0))
+            self.assertIs(is_joining(one, other, ("all", 2, 4), ([("move", "a", "b")], 0)), False)
+            self.assertIs(is_joining(one, other, ("all", 2, 4), ([("move", "a", "b")], 4)), True)
+            self.assertIs(is_joining(one, other, ("all", 2, 4), ([("move", "a", "c")], 4)), False)
+            self.assertIs(is_joining(one, other, ("all", 2, 4), ([("move", "a", "c")], 5)), True)
+
     def test_no_room(self):
         met = set()
         for naives in random_lands(1823, 150, 2, 5):

@@ -274,11 +274,14 @@ class Reading(Asking):
         self.same(write(desk), text)
         self.assertEqual(desk.history().many(), int(great))
         self.refused(BadText, 4, read, text.replace("make a 9", "make a 10"))
-        for figures in (63, 64, 65, 128, 4299, 4300, 4301, 9001):
+        for figures in (17, 18, 19, 36, 37, 128, 4299, 4300, 4301, 9001):
             for first in ("1", "7"):
                 number = first + "0" * (figures - 2) + "3"
                 text = f"history\naddresses a b\nmost {number}\nmake b {number}\n"
                 self.same(write(read(text)), text)
+                most = read(text).land().most()
+                self.assertEqual(most, int(first) * 10 ** (figures - 1) + 3)
+                self.assertEqual(read(text).rows(), {"a": [], "b": [(1, most)]})
                 self.refused(BadText, 5, read, text + f"grow b {number}\n")
                 self.refused(BadText, 3, read, text.replace("most ", "most 0"))
 

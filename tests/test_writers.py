@@ -319,6 +319,16 @@ class Keepers(Asking):
         self.same(calls, [((), made), ((), ("make", "b", 1)), ((), ("wait", 1)), ((made,), ("make", "b", 1)),
                           ((made,), ("grow", "a", 1)), ((made,), ("move", "a", "b"))])
 
+    def test_no_wait_of_no_days(self):
+        asked = []
+
+        def keeper(deeds, deed):
+            asked.append(deed)
+            return True
+
+        self.assertIsNone(keeper_fault(TWO, EVER, keeper, [0, 2, 0, 5], 1))
+        self.same(asked, [("make", "a", 2), ("make", "b", 2), ("wait", 2), ("wait", 5)])
+
     def test_no_truths(self):
         for thing in junk():
             if not isinstance(thing, bool):
