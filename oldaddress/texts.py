@@ -4,10 +4,10 @@ from oldaddress.checks import FIGURES, is_from_one, is_name
 from oldaddress.deedforms import FORMS
 from oldaddress.desks import Desk
 from oldaddress.entries import promise_told
-from oldaddress.errors import CannotBeDone
 from oldaddress.histories import History
 from oldaddress.lands import FEWEST, Land
-from oldaddress.refusals import BadText, BadThing, Broken
+from oldaddress.promises import keeps
+from oldaddress.refusals import BadText, BadThing
 
 HEADS = ("land", "history", "desk")
 WATCHING = ("watch", "hold")
@@ -108,13 +108,10 @@ def promise_in(words):
     return promise_told((words[1], width, life))
 
 
-def order_in(words):
-    """The order that a line of a desk tells, None if it tells none."""
-    if words[0] in WATCHING:
-        promise = promise_in(words)
-        return None if promise is None else (words[0], promise)
-    deed = deed_told(words)
-    return None if deed is None else ("do", deed)
+def order_told(words):
+    """The order by which the promise of a line is watched or held, None if it tells none."""
+    promise = promise_in(words) if words[0] in WATCHING else None
+    return None if promise is None else (words[0], promise)
 
 
 class Reading:
@@ -157,30 +154,47 @@ class Reading:
             self.refuse()
         return Land(names, most)
 
+    def is_at_promise(self):
+        """Whether the next line is one about a promise."""
+        return self._lines[self._read].split(" ")[0] in WATCHING
+
     def history(self, land):
-        """The history of a land and the deeds of all lines to the end."""
+        """The history of the deeds of the next lines, to the end or to the first line about a promise."""
         history = History(land, [])
-        while not self.is_at_end():
+        while not self.is_at_end() and not self.is_at_promise():
             deed = deed_told(self.words())
             if not history.can(deed):
                 self.refuse()
             history = history.then(deed)
         return history
 
-    def desk(self, land):
-        """The desk of a land and the orders of all lines to the end, no deed behind a promise."""
-        desk = Desk(land)
+    def orders(self, history):
+        """The orders of all lines to the end, by which promises are watched behind a history, each once."""
+        found = []
         while not self.is_at_end():
-            order = order_in(self.words())
-            watched = [promise for promise, is_held, holds in desk.watched()]
-            # No deed stands behind a promise, and no promise twice, though desks let a watched one be held.
-            if order is None or order[1] in watched or (order[0] == "do" and watched):
+            order = order_told(self.words())
+            if order is None or order[1] in [promise for word, promise in found]:
                 self.refuse()
-            try:
-                desk.give(order)
-            except (CannotBeDone, Broken):
+            if order[0] == "hold" and not keeps(history, order[1]):
                 self.refuse()
-        return desk
+            found.append(order)
+        return found
+
+    def check_end(self):
+        """That there are no more lines; the next one is refused."""
+        if not self.is_at_end():
+            self.words()
+            self.refuse()
+
+
+def desk_of(history, orders):
+    """The desk to which the deeds of a history were given, and then some orders."""
+    desk = Desk(history.land())
+    for deed in history.deeds():
+        desk.give(("do", deed))
+    for order in orders:
+        desk.give(order)
+    return desk
 
 
 def read(text):
@@ -188,11 +202,11 @@ def read(text):
     reading = Reading(text)
     head = reading.head()
     land = reading.land()
-    if head == "history":
-        return reading.history(land)
+    if head == "land":
+        reading.check_end()
+        return land
+    history = reading.history(land)
     if head == "desk":
-        return reading.desk(land)
-    if not reading.is_at_end():
-        reading.words()
-        reading.refuse()
-    return land
+        return desk_of(history, reading.orders(history))
+    reading.check_end()
+    return history

@@ -253,6 +253,24 @@ class Form(unittest.TestCase):
             return isinstance(node.func, ast.Name) and node.func.id in ("list", "dict", "tuple", "len", "sorted")
         return isinstance(node, ast.Compare)
 
+    def test_what_is_iterated_at_once_and_sets(self):
+        """L23 and L24: zips, views and the like go to a loop or a call that takes them; sets are only looked at."""
+        takers = "list tuple dict sorted sum any all enumerate zip max min".split()
+        for path, tree in trees():
+            for node in ast.walk(tree):
+                for child in ast.iter_child_nodes(node):
+                    called = child.func if isinstance(child, ast.Call) else None
+                    name = getattr(called, "id", getattr(called, "attr", None))
+                    taker = getattr(getattr(node, "func", None), "id", None)
+                    is_first = taker is not None and child in node.args[:1]
+                    if name in ("set", "frozenset") or isinstance(child, (ast.Set, ast.SetComp)):
+                        looked_at = isinstance(node, ast.Compare) or (is_first and taker in ("sorted", "len"))
+                        self.assertTrue(looked_at, (path, child.lineno))
+                    elif name in ("zip", "enumerate", "reversed", "range", "items", "keys", "values"):
+                        looped = isinstance(node, (ast.For, ast.comprehension)) and node.iter is child
+                        kept = name == "range" and isinstance(node, ast.Assign)
+                        self.assertTrue(looped or kept or (is_first and taker in takers), (path, child.lineno))
+
     def test_methods_are_own_or_allowed_ones(self):
         own, assigned = set(), set()
         for _, tree in trees():
